@@ -3,11 +3,11 @@ package fresh
 
 import "moraine/api"
 
-// Each is a new list of what a function tells of each item.
-func Each[T any](l []T, copied func(T) T) []T {
-	var made []T
+// Each is a new list of what a function makes of each item.
+func Each[T, U any](l []T, of func(T) U) []U {
+	var made []U
 	for _, item := range l {
-		made = append(made, copied(item))
+		made = append(made, of(item))
 	}
 	return made
 }
