@@ -19,3 +19,15 @@ func Val(v api.Val) api.Val {
 }
 
 func Vals(l []api.Val) []api.Val { return Each(l, Val) }
+
+// Class is a copy of a class, Schema one of a schema.
+func Class(c api.Class) api.Class {
+	c.Fields = append([]api.Field(nil), c.Fields...)
+	return c
+}
+
+func Schema(s api.Schema) api.Schema { return api.Schema{Lines: Each(s.Lines, line)} }
+
+func line(l api.Line) api.Line {
+	return api.Line{First: Class(l.First), Changes: append([]api.Change(nil), l.Changes...)}
+}
