@@ -31,3 +31,9 @@ func Schema(s api.Schema) api.Schema { return api.Schema{Lines: Each(s.Lines, li
 func line(l api.Line) api.Line {
 	return api.Line{First: Class(l.First), Changes: append([]api.Change(nil), l.Changes...)}
 }
+
+// Obj is a copy of an object.
+func Obj(o api.Obj) api.Obj {
+	o.Vals = Vals(o.Vals)
+	return o
+}
