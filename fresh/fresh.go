@@ -37,3 +37,11 @@ func Obj(o api.Obj) api.Obj {
 	o.Vals = Vals(o.Vals)
 	return o
 }
+
+// World is a copy of a world.
+func World(w api.World) api.World {
+	w.Schema = Schema(w.Schema)
+	w.Objs = Each(w.Objs, Obj)
+	w.Roots = append([]api.Root(nil), w.Roots...)
+	return w
+}
