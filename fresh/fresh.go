@@ -45,3 +45,14 @@ func World(w api.World) api.World {
 	w.Roots = append([]api.Root(nil), w.Roots...)
 	return w
 }
+
+// Rec is a copy of a record, Fact one of a fact.
+func Rec(r api.Rec) api.Rec {
+	r.Obj, r.Class = Obj(r.Obj), Class(r.Class)
+	return r
+}
+
+func Fact(f api.Fact) api.Fact {
+	f.Rec = Rec(f.Rec)
+	return f
+}
