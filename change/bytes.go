@@ -32,20 +32,25 @@ func needs(kind int) (need, bool) {
 
 // wellFormed tells whether a change has what it needs by its kind, and nothing else.
 func wellFormed(ch api.Change) bool {
+	return shaped(ch) && maybeExpr(ch.Expr) && maybeExpr(ch.Other)
+}
+
+// shaped tells whether a change is well formed, whatever expressions it has where it needs some.
+func shaped(ch api.Change) bool {
 	n, ok := needs(ch.Kind)
 	typed := ch.Type == api.Type{}
 	if n.typed {
 		typed = class.RightType(ch.Type)
 	}
 	return ok && typed &&
-		needed(n.field, ch.Field, words.Name) && needed(n.name, ch.Name, words.Name) && needed(n.more, ch.More, words.Name) &&
-		needed(n.typed, ch.Expr, maybeExpr) && needed(n.other, ch.Other, maybeExpr)
+		named(n.field, ch.Field) && named(n.name, ch.Name) && named(n.more, ch.More) &&
+		(n.typed || ch.Expr == "") && (n.other || ch.Other == "")
 }
 
-// needed tells whether a text that is needed is right, and one that is not is empty.
-func needed(is bool, s string, right func(string) bool) bool {
-	if is {
-		return right(s)
+// named tells whether a name that is needed is right, and one that is not is empty.
+func named(needed bool, s string) bool {
+	if needed {
+		return words.Name(s)
 	}
 	return s == ""
 }

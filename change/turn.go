@@ -20,7 +20,7 @@ type turn struct {
 	come     []part
 }
 
-// work is a well formed change of a right class, with the place of the field that it names, if there is one.
+// work is a change of a right class, well formed but for its expressions, with the place of the field that it names, if there is one.
 type work struct {
 	class api.Class
 	ch    api.Change
@@ -30,10 +30,10 @@ type work struct {
 
 // turned is what a change does to a class, if it is right.
 func turned(c api.Class, ch api.Change) (turn, bool) {
-	if !class.Right(c) || !wellFormed(ch) {
+	if !class.Right(c) || !shaped(ch) {
 		return turn{}, false
 	}
-	w := work{class: c, ch: ch}
+	w := &work{class: c, ch: ch}
 	w.at, w.has = class.Field(c, ch.Field)
 	kinds := map[int]func() (turn, bool){
 		api.ChAdd: w.add, api.ChDrop: w.drop, api.ChRename: w.rename, api.ChTurn: w.retype, api.ChSplit: w.split, api.ChIndex: w.index,
@@ -41,15 +41,15 @@ func turned(c api.Class, ch api.Change) (turn, bool) {
 	return kinds[ch.Kind]()
 }
 
-func (w work) add() (turn, bool) {
+func (w *work) add() (turn, bool) {
 	end := len(w.class.Fields)
 	p, ok := w.told(w.ch.Name, w.ch.Expr)
 	return turn{end, end, []part{p}}, ok && end < api.MaxFields && !w.taken(w.ch.Name)
 }
 
-func (w work) drop() (turn, bool) { return w.instead() }
+func (w *work) drop() (turn, bool) { return w.instead() }
 
-func (w work) rename() (turn, bool) {
+func (w *work) rename() (turn, bool) {
 	if !w.has || w.taken(w.ch.Name) {
 		return turn{}, false
 	}
@@ -58,7 +58,7 @@ func (w work) rename() (turn, bool) {
 	return w.instead(p)
 }
 
-func (w work) retype() (turn, bool) {
+func (w *work) retype() (turn, bool) {
 	p, ok := w.told(w.ch.Field, w.ch.Expr)
 	if !ok {
 		return turn{}, false
@@ -66,7 +66,7 @@ func (w work) retype() (turn, bool) {
 	return w.instead(p)
 }
 
-func (w work) split() (turn, bool) {
+func (w *work) split() (turn, bool) {
 	one, ok := w.told(w.ch.Name, w.ch.Expr)
 	more, also := w.told(w.ch.More, w.ch.Other)
 	if !ok || !also || len(w.class.Fields) >= api.MaxFields || w.ch.Name == w.ch.More {
@@ -80,7 +80,7 @@ func (w work) split() (turn, bool) {
 	return w.instead(one, more)
 }
 
-func (w work) index() (turn, bool) {
+func (w *work) index() (turn, bool) {
 	if !w.has {
 		return turn{}, false
 	}
@@ -92,22 +92,22 @@ func (w work) index() (turn, bool) {
 }
 
 // instead lets parts come in the place of the field that the change names.
-func (w work) instead(come ...part) (turn, bool) {
+func (w *work) instead(come ...part) (turn, bool) {
 	return turn{w.at, w.at + 1, come}, w.has
 }
 
 // kept is the field that the change names, with the value that it has.
-func (w work) kept() part {
+func (w *work) kept() part {
 	return part{w.class.Fields[w.at], func(vals []api.Val) api.Val { return vals[w.at] }}
 }
 
-func (w work) taken(name string) bool {
+func (w *work) taken(name string) bool {
 	_, ok := class.Field(w.class, name)
 	return ok
 }
 
 // told is a field of the change's type whose values an expression tells, if it can.
-func (w work) told(name, text string) (part, bool) {
+func (w *work) told(name, text string) (part, bool) {
 	p := part{field: api.Field{Name: name, Type: w.ch.Type}}
 	if text == "" {
 		p.worth = func([]api.Val) api.Val { return val.Zero(w.ch.Type) }

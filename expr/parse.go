@@ -8,7 +8,7 @@ type fault struct{ at int }
 // parser makes a tree of pieces.
 type parser struct {
 	pieces
-	binds, calls map[string]int
+	binds map[string]int
 }
 
 // Parse is an expression's tree; beside ErrExpr the place of the fault.
@@ -16,7 +16,7 @@ func Parse(s string) (api.Expr, int, api.Errno) {
 	if len(s) > api.MaxInput {
 		return api.Expr{}, api.MaxInput, api.ErrExpr
 	}
-	p := parser{binds: binds(), calls: calls()}
+	p := parser{binds: binds()}
 	p.end = len(s)
 	for next, ok := range scan(s) {
 		if !ok {
@@ -28,7 +28,7 @@ func Parse(s string) (api.Expr, int, api.Errno) {
 	if err != api.OK {
 		return api.Expr{}, at, err
 	}
-	if !Right(e) {
+	if !rightBy(p.binds, e) {
 		return api.Expr{}, 0, api.ErrDeep
 	}
 	return e, 0, api.OK
@@ -86,7 +86,7 @@ func (p *parser) tight() api.Expr {
 
 // call is one of that name, which stands ahead of what is left.
 func (p *parser) call(name string) api.Expr {
-	takes, ok := p.calls[name]
+	takes, ok := calls()[name]
 	if !ok {
 		panic(fault{p.ahead().at})
 	}

@@ -3,6 +3,7 @@ package kin
 
 import (
 	"moraine/api"
+	"moraine/change"
 	"moraine/fresh"
 	"moraine/obj"
 	"moraine/schema"
@@ -14,7 +15,7 @@ type version struct{ class, ver int }
 // Kin knows a right schema, and those classes of it that were asked for.
 type Kin struct {
 	schema  api.Schema
-	classes map[version]api.Schema
+	classes map[version]api.Class
 }
 
 // New tells objects by that schema: schema.Check's error.
@@ -22,36 +23,43 @@ func New(s api.Schema) (*Kin, api.Errno) {
 	if _, err := schema.Check(s); err != api.OK {
 		return nil, err
 	}
-	return &Kin{s, map[version]api.Schema{}}, api.OK
+	return &Kin{s, map[version]api.Class{}}, api.OK
 }
 
 // Latest is an object as it is; false, if it is not right by the schema.
 func (k *Kin) Latest(o api.Obj) (api.Obj, bool) {
-	alone, ok := k.alone(version{o.Class, o.Ver})
-	if !ok || !obj.Right(alone, api.Obj{ID: o.ID, Vals: o.Vals}) {
+	c, ok := k.class(o.Class, o.Ver)
+	if !ok || !rightAlone(c, o) {
 		return api.Obj{}, false
 	}
-	line := k.schema.Lines[o.Class]
-	if o.Ver == len(line.Changes) {
-		return fresh.Obj(o), true
+	now := fresh.Obj(o)
+	changes := k.schema.Lines[o.Class].Changes
+	for ; now.Ver < len(changes); now.Ver++ {
+		c, _ := k.class(o.Class, now.Ver)
+		vals, err := change.Vals(c, changes[now.Ver], now.Vals)
+		if err != api.OK {
+			return api.Obj{}, false
+		}
+		now.Vals = vals
 	}
-	class := o.Class
-	o.Class = 0
-	now, err := obj.Latest(api.Schema{Lines: []api.Line{line}}, o)
-	now.Class = class
-	return now, err == api.OK
+	return now, true
 }
 
-// alone is a schema of a version's class alone, as if it had never been another one.
-func (k *Kin) alone(v version) (api.Schema, bool) {
-	if known, ok := k.classes[v]; ok {
+// rightAlone tells whether an object would be right, if its class had never been another one.
+func rightAlone(c api.Class, o api.Obj) bool {
+	return obj.Right(api.Schema{Lines: []api.Line{{First: c}}}, api.Obj{ID: o.ID, Vals: o.Vals})
+}
+
+// class is a class of a version.
+func (k *Kin) class(number, ver int) (api.Class, bool) {
+	known, ok := k.classes[version{number, ver}]
+	if ok {
 		return known, true
 	}
-	c, err := schema.At(k.schema, v.class, v.ver)
+	c, err := schema.At(k.schema, number, ver)
 	if err != api.OK {
-		return api.Schema{}, false
+		return api.Class{}, false
 	}
-	made := api.Schema{Lines: []api.Line{{First: c}}}
-	k.classes[v] = made
-	return made, true
+	k.classes[version{number, ver}] = c
+	return c, true
 }
