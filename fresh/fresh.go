@@ -56,3 +56,8 @@ func Fact(f api.Fact) api.Fact {
 	f.Rec = Rec(f.Rec)
 	return f
 }
+
+// Laid are a commit's records as facts that lie in no segment yet.
+func Laid(b api.Batch) []api.Fact {
+	return Each(b.Recs, func(r api.Rec) api.Fact { return api.Fact{N: b.N, Rec: Rec(r)} })
+}
