@@ -6,6 +6,7 @@ import (
 	"moraine/api"
 	"moraine/schema"
 	"moraine/val"
+	"moraine/words"
 )
 
 // Of which lines a text goes on, in this order.
@@ -41,16 +42,16 @@ type reader struct {
 
 // line reads a line: where none of one part can be read, those of the next one begin.
 func (r *reader) line(s string) bool {
-	words := strings.Split(s, " ")
+	l := strings.Split(s, " ")
 	switch r.part {
 	case classLines:
-		if r.class(words) || r.field(words) {
+		if r.class(l) || r.field(l) {
 			return true
 		}
 		r.part = rootLines
 		fallthrough
 	case rootLines:
-		if r.root(words) {
+		if r.root(l) {
 			return true
 		}
 		r.part = objectLines
@@ -60,49 +61,37 @@ func (r *reader) line(s string) bool {
 	}
 }
 
-func (r *reader) class(words []string) bool {
-	if len(words) != 2 || words[0] != "class" {
+func (r *reader) class(l []string) bool {
+	if len(l) != 2 || l[0] != "class" {
 		return false
 	}
-	r.world.Schema.Lines = append(r.world.Schema.Lines, api.Line{First: api.Class{Name: words[1]}})
+	r.world.Schema.Lines = append(r.world.Schema.Lines, api.Line{First: api.Class{Name: l[1]}})
 	return true
 }
 
-func (r *reader) field(words []string) bool {
+func (r *reader) field(l []string) bool {
 	last := len(r.world.Schema.Lines) - 1
-	if last < 0 || len(words) < 3 || words[0] != "" {
+	if last < 0 || len(l) < 3 || l[0] != "" {
 		return false
 	}
-	f := api.Field{Name: words[1]}
-	words = words[2:]
-	if words[0] == "list" && len(words) > 1 {
-		words = words[1:]
-		f.Type = api.Type{Kind: api.List, Of: kindOf(words[0])}
-	} else {
-		f.Type.Kind = kindOf(words[0])
+	f := api.Field{Name: l[1], Type: api.Type{Kind: words.KindOf(l[2])}}
+	l = l[3:]
+	if f.Type.Kind == api.List && len(l) > 0 {
+		f.Type.Of = words.KindOf(l[0])
+		l = l[1:]
 	}
-	f.Indexed = len(words) > 1
+	f.Indexed = len(l) > 0
 	c := &r.world.Schema.Lines[last].First
 	c.Fields = append(c.Fields, f)
 	return true
 }
 
-// kindOf is the kind that has a name, or none.
-func kindOf(name string) int {
-	for kind, known := range kindNames {
-		if known == name {
-			return kind
-		}
-	}
-	return api.Nil
-}
-
-func (r *reader) root(words []string) bool {
-	if len(words) != 3 || words[0] != "root" {
+func (r *reader) root(l []string) bool {
+	if len(l) != 3 || l[0] != "root" {
 		return false
 	}
-	v, _, _ := val.Read(words[2], 0)
-	r.world.Roots = append(r.world.Roots, api.Root{Name: words[1], ID: v.N})
+	v, _, _ := val.Read(l[2], 0)
+	r.world.Roots = append(r.world.Roots, api.Root{Name: l[1], ID: v.N})
 	return true
 }
 

@@ -73,3 +73,27 @@ func Unquote(s string, at int) (string, int, bool) {
 	}
 	return "", 0, false
 }
+
+// KindName is how a kind of values is written in a type; KindOf the kind that is written so, or none.
+func KindName(kind int) string {
+	switch kind {
+	case api.Num:
+		return "num"
+	case api.Text:
+		return "text"
+	case api.Ref:
+		return "ref"
+	case api.Weak:
+		return "weak"
+	}
+	return "list"
+}
+
+func KindOf(name string) int {
+	for kind := api.Num; kind <= api.List; kind++ {
+		if KindName(kind) == name {
+			return kind
+		}
+	}
+	return api.Nil
+}

@@ -4,6 +4,7 @@ import (
 	"strings"
 	"testing"
 
+	"moraine/api"
 	"moraine/words"
 )
 
@@ -37,6 +38,19 @@ func TestQuotes(t *testing.T) {
 	for _, s := range []string{"", "a", `"`, `"a`, `"\"`, `"\a"`} {
 		if got, to, ok := words.Unquote(s, 0); got != "" || to != 0 || ok {
 			t.Errorf("Unquote(%s): %q, %d, %t", s, got, to, ok)
+		}
+	}
+}
+
+func TestKinds(t *testing.T) {
+	for kind, name := range map[int]string{api.Num: "num", api.Text: "text", api.Ref: "ref", api.Weak: "weak", api.List: "list"} {
+		if words.KindName(kind) != name || words.KindOf(name) != kind {
+			t.Errorf("%d: %s, %s: %d", kind, words.KindName(kind), name, words.KindOf(name))
+		}
+	}
+	for _, name := range []string{"", "nil", "Num", "lists"} {
+		if words.KindOf(name) != api.Nil {
+			t.Errorf("KindOf %q", name)
 		}
 	}
 }
