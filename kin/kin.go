@@ -9,13 +9,10 @@ import (
 	"moraine/schema"
 )
 
-// version is one of a class.
-type version struct{ class, ver int }
-
-// Kin knows a right schema, and those classes of it that were asked for.
+// Kin knows a right schema, and all versions of those classes that were asked for.
 type Kin struct {
-	schema  api.Schema
-	classes map[version]api.Class
+	schema   api.Schema
+	versions map[int][]api.Class
 }
 
 // New tells objects by that schema: schema.Check's error.
@@ -23,20 +20,32 @@ func New(s api.Schema) (*Kin, api.Errno) {
 	if _, err := schema.Check(s); err != api.OK {
 		return nil, err
 	}
-	return &Kin{s, map[version]api.Class{}}, api.OK
+	return &Kin{s, map[int][]api.Class{}}, api.OK
+}
+
+// Right tells whether an object is right by the schema.
+func (k *Kin) Right(o api.Obj) bool {
+	if o.Class < 0 || o.Class >= len(k.schema.Lines) {
+		return false
+	}
+	classes := k.of(o.Class)
+	if o.Ver < 0 || o.Ver >= len(classes) {
+		return false
+	}
+	// It is right, if it would be, had its class never been another one.
+	alone := api.Schema{Lines: []api.Line{{First: classes[o.Ver]}}}
+	return obj.Right(alone, api.Obj{ID: o.ID, Vals: o.Vals})
 }
 
 // Latest is an object as it is; false, if it is not right by the schema.
 func (k *Kin) Latest(o api.Obj) (api.Obj, bool) {
-	c, ok := k.class(o.Class, o.Ver)
-	if !ok || !rightAlone(c, o) {
+	if !k.Right(o) {
 		return api.Obj{}, false
 	}
 	now := fresh.Obj(o)
-	changes := k.schema.Lines[o.Class].Changes
+	classes, changes := k.of(o.Class), k.schema.Lines[o.Class].Changes
 	for ; now.Ver < len(changes); now.Ver++ {
-		c, _ := k.class(o.Class, now.Ver)
-		vals, err := change.Vals(c, changes[now.Ver], now.Vals)
+		vals, err := change.Vals(classes[now.Ver], changes[now.Ver], now.Vals)
 		if err != api.OK {
 			return api.Obj{}, false
 		}
@@ -45,21 +54,19 @@ func (k *Kin) Latest(o api.Obj) (api.Obj, bool) {
 	return now, true
 }
 
-// rightAlone tells whether an object would be right, if its class had never been another one.
-func rightAlone(c api.Class, o api.Obj) bool {
-	return obj.Right(api.Schema{Lines: []api.Line{{First: c}}}, api.Obj{ID: o.ID, Vals: o.Vals})
-}
-
-// class is a class of a version.
-func (k *Kin) class(number, ver int) (api.Class, bool) {
-	known, ok := k.classes[version{number, ver}]
+// of are all versions of a class.
+func (k *Kin) of(number int) []api.Class {
+	known, ok := k.versions[number]
 	if ok {
-		return known, true
+		return known
 	}
-	c, err := schema.At(k.schema, number, ver)
-	if err != api.OK {
-		return api.Class{}, false
+	l := k.schema.Lines[number]
+	c := l.First
+	classes := []api.Class{c}
+	for _, ch := range l.Changes {
+		c, _ = change.Apply(c, ch)
+		classes = append(classes, c)
 	}
-	k.classes[version{number, ver}] = c
-	return c, true
+	k.versions[number] = classes
+	return classes
 }

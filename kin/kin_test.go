@@ -32,7 +32,7 @@ func TestLatestIsWhatObjTells(t *testing.T) {
 					}
 					want, err := obj.Latest(s, o)
 					got, ok := k.Latest(o)
-					if !obj.Same(got, want) || ok != (err == api.OK) {
+					if !obj.Same(got, want) || ok != (err == api.OK) || k.Right(o) != ok {
 						t.Errorf("%v is %v, %t, and should be %v, %d", o, got, ok, want, err)
 					}
 				}

@@ -1,7 +1,7 @@
 package world
 
 import (
-	"cmp"
+	"maps"
 	"slices"
 
 	"moraine/api"
@@ -13,8 +13,11 @@ import (
 
 // doing is a world on which records are done.
 type doing struct {
-	api.World
-	kin *kin.Kin
+	schema api.Schema
+	kin    *kin.Kin
+	objs   map[int]api.Obj
+	roots  map[string]int
+	next   int
 }
 
 // Apply is a world on which records were done, and how many; beside an error the number of the record that could not be.
@@ -22,11 +25,16 @@ func Apply(w api.World, l []api.Rec) (api.World, int, api.Errno) {
 	if err := Check(w); err != api.OK {
 		return api.World{}, 0, err
 	}
-	k, err := kin.New(w.Schema)
-	if err != api.OK {
+	d := &doing{objs: map[int]api.Obj{}, roots: map[string]int{}, next: w.Next}
+	if err := d.turn(w.Schema, api.OK); err != api.OK {
 		return api.World{}, 0, err
 	}
-	d := &doing{fresh.World(w), k}
+	for _, o := range w.Objs {
+		d.objs[o.ID] = o
+	}
+	for _, r := range w.Roots {
+		d.roots[r.Name] = r.ID
+	}
 	kinds := map[int]func(api.Rec) api.Errno{
 		api.RPut: d.put, api.RRoot: d.root, api.RClass: d.class, api.RChange: d.change, api.RSnap: d.snap,
 	}
@@ -39,19 +47,31 @@ func Apply(w api.World, l []api.Rec) (api.World, int, api.Errno) {
 			return api.World{}, i, err
 		}
 	}
-	if err := Check(d.World); err != api.OK {
+	made := d.world()
+	if err := Check(made); err != api.OK {
 		return api.World{}, len(l), err
 	}
-	return d.World, len(l), api.OK
+	return made, len(l), api.OK
+}
+
+// world is what there is now.
+func (d *doing) world() api.World {
+	w := api.World{Schema: fresh.Schema(d.schema), Next: d.next}
+	for _, id := range slices.Sorted(maps.Keys(d.objs)) {
+		w.Objs = append(w.Objs, fresh.Obj(d.objs[id]))
+	}
+	for _, name := range slices.Sorted(maps.Keys(d.roots)) {
+		w.Roots = append(w.Roots, api.Root{Name: name, ID: d.roots[name]})
+	}
+	return w
 }
 
 func (d *doing) put(r api.Rec) api.Errno {
-	if _, ok := d.kin.Latest(r.Obj); !ok {
+	if !d.kin.Right(r.Obj) {
 		return api.ErrWorld
 	}
-	at, found := slices.BinarySearchFunc(d.Objs, r.Obj.ID, func(o api.Obj, id int) int { return cmp.Compare(o.ID, id) })
-	d.Objs = placed(d.Objs, at, found, fresh.Obj(r.Obj))
-	d.Next = max(d.Next, r.Obj.ID+1)
+	d.objs[r.Obj.ID] = r.Obj
+	d.next = max(d.next, r.Obj.ID+1)
 	return api.OK
 }
 
@@ -59,37 +79,26 @@ func (d *doing) root(r api.Rec) api.Errno {
 	if !words.Name(r.Name) || r.ID < 0 || r.ID > api.MaxID {
 		return api.ErrWorld
 	}
-	at, found := slices.BinarySearchFunc(d.Roots, r.Name, func(root api.Root, name string) int { return cmp.Compare(root.Name, name) })
-	switch {
-	case r.ID > 0:
-		d.Roots = placed(d.Roots, at, found, api.Root{Name: r.Name, ID: r.ID})
-	case found:
-		d.Roots = slices.Delete(d.Roots, at, at+1)
+	if r.ID > 0 {
+		d.roots[r.Name] = r.ID
+	} else {
+		delete(d.roots, r.Name)
 	}
 	return api.OK
 }
 
-// placed is a list with an item at a place: instead of the one there, if it was found, or ahead of it.
-func placed[T any](l []T, at int, found bool, item T) []T {
-	if found {
-		l[at] = item
-		return l
-	}
-	return slices.Insert(l, at, item)
-}
-
 func (d *doing) class(r api.Rec) api.Errno {
-	if r.ID != len(d.Schema.Lines) {
+	if r.ID != len(d.schema.Lines) {
 		return api.ErrWorld
 	}
-	return d.turn(schema.Add(d.Schema, r.Class))
+	return d.turn(schema.Add(d.schema, r.Class))
 }
 
 func (d *doing) change(r api.Rec) api.Errno {
-	if r.ID < 0 || r.ID >= len(d.Schema.Lines) || r.Ver != len(d.Schema.Lines[r.ID].Changes)+1 {
+	if r.ID < 0 || r.ID >= len(d.schema.Lines) || r.Ver != len(d.schema.Lines[r.ID].Changes)+1 {
 		return api.ErrWorld
 	}
-	return d.turn(schema.Turn(d.Schema, r.ID, r.Change))
+	return d.turn(schema.Turn(d.schema, r.ID, r.Change))
 }
 
 // turn lets the schema be another one, if there was no error.
@@ -97,7 +106,7 @@ func (d *doing) turn(s api.Schema, err api.Errno) api.Errno {
 	if err != api.OK {
 		return err
 	}
-	d.Schema = s
+	d.schema = s
 	d.kin, err = kin.New(s)
 	return err
 }
