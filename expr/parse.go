@@ -86,13 +86,13 @@ func (p *parser) tight() api.Expr {
 
 // call is one of that name, which stands ahead of what is left.
 func (p *parser) call(name string) api.Expr {
-	takes, ok := calls()[name]
+	many, ok := takes(name)
 	if !ok {
 		panic(fault{p.ahead().at})
 	}
 	e := api.Expr{Kind: api.ECall, S: name}
 	p.want("(")
-	for i := range takes {
+	for i := range many {
 		if i > 0 {
 			p.want(",")
 		}

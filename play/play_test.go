@@ -41,6 +41,20 @@ func TestActs(t *testing.T) {
 	)
 }
 
+// TestExamplesOfTheWhole plays those of the document that scripts can tell.
+func TestExamplesOfTheWhole(t *testing.T) {
+	node := "commit 0 : class node n:num next:ref ; new node 1 @-2 ; new node 2 @-1 ; root top -2 => commit 0 : 1"
+	plays(t, 64, 8, node, `ask "top.next.n" => ask 1`, `ask "all node where n > 1" => ask @2`)
+	plays(t, 64, 8, node, "commit 1 : class c w:weak ; new c ~1 ; root c -1 => commit 0 : 2", `ask "c.w" => ask ~1`, "commit 2 : unroot top => commit 0 : 3", `ask "all node" => ask`, `ask "c.w" => ask -`)
+	name := `commit 0 : class p name:text ; new p "ab c" ; root p -1 ; new p "xyz" ; root q -2 => commit 0 : 1`
+	split := `commit 1 : change p split name one more text "left(name, 2)" "from(name, 3)" => commit 0 : 2`
+	for _, collect := range []string{"collect 0 => collect on", "collect 9 => collect rest"} {
+		plays(t, 64, 8, name, collect, split, `ask "p.one" => ask "ab"`, `ask "p.more" => ask "c"`, collect, "crash => crash : 2", `ask "p.one" => ask "ab"`, `ask "p.more" => ask "c"`, `ask "q.one" => ask "xy"`, `ask "q.more" => ask ""`)
+	}
+	plays(t, 64, 8, node, "commit 1 : read 1 ; set 1 n 5 | 1 : read 1 ; set 1 n 6 => commit 0 180 : 2", `ask "top.next.n" => ask 5`)
+	plays(t, 64, 8, "commit 0 : class c a:num ; new c 1 ; root home -1 => commit 0 : 1", "cut 2 => cut 0", "commit 1 : new c 2 ; root home -1 => commit 22", "crash 0 => crash : 2", `ask "home" => ask @2`)
+}
+
 func TestPowerGoesAndComesAgain(t *testing.T) {
 	head := "commit 0 : class c a:num ; new c 1 ; root h -1 => commit 0 : 1"
 	plays(t, 64, 8, head, "cut 0 => cut 0", "commit 1 : set 1 a 2 => commit 22", `ask "h.a" => ask ! 261`, "commit 1 : => commit 261", "collect 5 => collect 261", "crash => crash : 1", `ask "h.a" => ask 1`)
