@@ -110,7 +110,7 @@ func TestEval(t *testing.T) {
 		`find("äöü","ü")`: num(2), `find("abab","b")`: num(1), `find(t,"")`: num(0), `find("","")`: num(0), `find(t,"c")`: num(-1), `find("a","ab")`: num(-1),
 		"text(0)": text("0"), "text(-n)": text("-7"), "text(-1000000000000000)": text("-1000000000000000"),
 		`num("7")`: num(7), `num("-7")`: num(-7), `num("0")`: num(0), `num("07")`: num(0), `num("+7")`: num(0), `num("-0")`: num(0), `num("-")`: num(0), `num("7 ")`: num(0), `num("")`: num(0), `num("@7")`: num(0), `num("1000000000000000")`: num(api.MaxNum), `num("1000000000000001")`: num(0), `num("99999999999999999999")`: num(0),
-		"if(0,1,2)": num(2), "if(-1,1,2)": num(1), "min(n,m)": num(-3), "max(n,m)": num(7), "min(1,1)": num(1),
+		"if(0,1,2)": num(2), "if(-1,1,2)": num(1), "min(n,m)": num(-3), "min(m,n)": num(-3), "max(n,m)": num(7), "max(m,n)": num(7), "min(1,1)": num(1),
 		`"` + sixty + `"&"c"`: text(sixty), `"` + sixty[:59] + `"&"ü"`: text(sixty[:59]), `"` + sixty[:58] + `"&"üx"`: text(sixty[:58] + "ü"), `"` + sixty[:58] + `"&"€x"`: text(sixty[:58]),
 	} {
 		if got, err := eval.Eval(parsed(t, s), thing(), vals); !val.Same(got, want) || err != api.OK {

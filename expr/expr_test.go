@@ -53,7 +53,7 @@ func TestParse(t *testing.T) {
 func TestParseTellsWhereTheFaultIs(t *testing.T) {
 	for s, want := range map[string]int{
 		"": 0, "  ": 2, "left(a)": 6, "left(a,": 7, "left(a,b,c)": 8, "foo(a)": 3, "foo (a)": 4, "a b": 2, "1a": 1, "a+": 2, "a+ ": 3, "a + * b": 4, ")": 0, "(a": 2, "(a))": 3, "a,b": 1,
-		"len()": 4, "-": 1, "a - ": 4, "a=<b": 2, "(a,b)": 2, "len": -1, "if(a,b": 6, "a\"b\"": 1, "5(": 1, "()": 1, `"a"(`: 3,
+		"len()": 4, "-": 1, "a - ": 4, "a=<b": 2, "(a,b)": 2, "len": -1, "if(a,b": 6, "a\"b\"": 1, `a "+" b`: 2, `a "*"`: 2, "5(": 1, "()": 1, `"a"(`: 3,
 		// What is no piece is told ahead of what is none of the language.
 		") $": 2, "a b A": 4, "A": 0, "a!": 1, "a\n": 1, "é": 0, `a & "b`: 4, `"\n"`: 0, "\"\x01\"": 0, "\"\xff\"": 0, `a + "` + strings.Repeat("x", 61) + `"`: 4,
 		"1000000000000001": 0, "2+" + strings.Repeat("9", 100): 2, "1+" + strings.Repeat("a", 21): 2, "_a": 0, "a.b": 1,

@@ -73,7 +73,7 @@ func TestOpenRefuses(t *testing.T) {
 			t.Errorf("Open of %d by %d: %v, %d, %d", x.sectors, x.per, pieces, sector, err)
 		}
 	}
-	if l, _, _, err := log.Open(nil, -1); l != nil || err != api.ErrNil {
+	if l, _, sector, err := log.Open(nil, -1); l != nil || sector != 0 || err != api.ErrNil {
 		t.Errorf("Open of none: %d", err)
 	}
 }
@@ -328,6 +328,22 @@ func TestEpochsEnd(t *testing.T) {
 	counts(t, l, 2, use(api.MaxEpoch-1, 3), use(api.MaxEpoch, 4))
 }
 
+func TestLinksTellLargeEpochs(t *testing.T) {
+	d, _ := disk.New(32)
+	none := use(0, 0)
+	laid(t, d, map[int]api.Frame{8: link(0x010203, none, none, none, none), 9: end(0x010203, 1, "a"), 10: seal(0x010203, 2)})
+	l := reopened(t, d, 8, "66051:a")
+	appended(t, l, false, []int{0x010204}, "b")
+	sealed(t, l)
+	stands(t, d, 0, api.Frame{Epoch: 0x010204, Kind: api.FLink, S: "\x00\x00\x00\x00" + "\x01\x02\x03\x03" + strings.Repeat("\x00", 8)})
+	l = reopened(t, d, 8, "66051:a", "66052:b")
+	counts(t, l, 2, use(0x010203, 3), use(0x010204, 3))
+	appended(t, l, true, []int{0x010205}, "c")
+	stands(t, d, 16, api.Frame{Epoch: 0x010205, Kind: api.FLink, S: "\x01\x02\x04\x03" + "\x01\x02\x03\x03" + strings.Repeat("\x00", 8)})
+	counts(t, l, 1, use(0x010203, 3), use(0x010204, 3), use(0x010205, 2))
+	appended(t, l, false, []int{0x010205}, "what needs no other segment is appended, however few are free")
+}
+
 func TestRotIsToldInTurn(t *testing.T) {
 	none := use(0, 0)
 	good := func() map[int]api.Frame {
@@ -353,7 +369,7 @@ func TestRotIsToldInTurn(t *testing.T) {
 		{but(func(m map[int]api.Frame) { m[0] = end(1, 0, "") }), 0}, {but(func(m map[int]api.Frame) { delete(m, 0); delete(m, 1) }), 0}, {but(func(m map[int]api.Frame) { delete(m, 2) }), 2}, {but(func(m map[int]api.Frame) { m[1] = end(2, 1, "a") }), 1},
 		{but(func(m map[int]api.Frame) { m[6] = api.Frame{Epoch: 2, At: 2, Kind: api.FLink} }), 6}, {but(func(m map[int]api.Frame) { delete(m, 7); m[13] = end(2, 1, "") }), 7}, {but(func(m map[int]api.Frame) { delete(m, 2); delete(m, 4) }), 2},
 		{but(func(m map[int]api.Frame) { delete(m, 13) }), 13}, {but(func(m map[int]api.Frame) { m[13] = api.Frame{Epoch: 3, At: 1, Kind: api.FLink} }), 13}, {but(func(m map[int]api.Frame) { m[13] = end(2, 1, "d") }), 13}, {but(func(m map[int]api.Frame) { delete(m, 14); m[15] = seal(3, 3) }), 14},
-		{but(func(m map[int]api.Frame) { m[13] = end(3, 2, "d") }), 13},
+		{but(func(m map[int]api.Frame) { m[13] = end(3, 2, "d") }), 13}, {but(func(m map[int]api.Frame) { m[9] = end(3, 1, "stray") }), 8},
 	} {
 		d, _ := disk.New(16)
 		laid(t, d, x.frames)
@@ -366,6 +382,12 @@ func TestRotIsToldInTurn(t *testing.T) {
 		frames map[int]api.Frame
 		want   []string
 	}{
+		{but(func(m map[int]api.Frame) {
+			delete(m, 13)
+			delete(m, 15)
+			m[14] = end(2, 2, "stale")
+			m[13] = end(3, 1, "d")
+		}), []string{"1:a", "2:b", "2:c", "3:d"}},
 		{good(), []string{"1:a", "2:b", "2:c", "3:d"}}, {but(func(m map[int]api.Frame) { delete(m, 14) }), []string{"1:a", "2:b", "2:c", "3:d"}}, {but(func(m map[int]api.Frame) { delete(m, 14); delete(m, 13) }), []string{"1:a", "2:b", "2:c"}},
 		{but(func(m map[int]api.Frame) { delete(m, 3); m[8] = end(2, 1, "stale") }), []string{"1:a", "2:b", "2:c", "3:d"}}, {but(func(m map[int]api.Frame) { m[15] = end(3, 3, "e") }), []string{"1:a", "2:b", "2:c", "3:d", "3:e"}},
 		{but(func(m map[int]api.Frame) { m[12] = link(3, none, use(2, 2), none, none) }), []string{"2:b", "3:d"}}, {but(func(m map[int]api.Frame) { m[15] = api.Frame{Epoch: 3, At: 3, Kind: api.FLink} }), []string{"1:a", "2:b", "2:c", "3:d"}},

@@ -170,6 +170,9 @@ func TestRun(t *testing.T) {
 		{[]api.Op{read(2), readRoot("x"), read(1), read(2), readRoot("top")}, nil, []string{"o2", "rx", "o1", "rtop"}, 5},
 		{[]api.Op{set(2, "n", num(7))}, []api.Rec{put(at(2, vals(7, 0, 0)))}, []string{"o2", "s"}, 5},
 		{[]api.Op{set(1, "n", num(7)), set(1, "n", num(8))}, []api.Rec{put(at(1, vals(8, 2, 3)))}, []string{"o1", "s"}, 5},
+		{[]api.Op{set(1, "n", num(7)), set(1, "w", api.Val{}), set(1, "l", list(weak(2)))}, []api.Rec{put(at(1, vals(7, 2, 0, 2)))}, []string{"o1", "s"}, 5},
+		{[]api.Op{turn("node", add("m"))}, []api.Rec{changeRec(0, 1, add("m"))}, []string{"s"}, 5},
+		{[]api.Op{addClass(node2())}, []api.Rec{classRec(1, node2())}, []string{"s"}, 5},
 		{[]api.Op{set(1, "w", api.Val{}), set(2, "next", ref(1))}, []api.Rec{put(at(1, vals(10, 2, 0))), put(at(2, vals(20, 1, 0)))}, []string{"o1", "s", "o2"}, 5},
 		{[]api.Op{makeNew(vals(1, -2, -3, 1, -1)), makeNew(vals(2, 1, -2)), makeNew(vals(3, 0, 0)), set(-3, "l", list(weak(-1), weak(2)))}, []api.Rec{put(at(5, vals(1, 6, 7, 1, 5))), put(at(6, vals(2, 1, 6))), put(at(7, vals(3, 0, 0, 5, 2)))}, []string{"s"}, 8},
 		{[]api.Op{root("b", -1), makeNew(vals(1, 0, 0)), root("a", 2), root("b", -1)}, []api.Rec{put(at(5, vals(1, 0, 0))), rootRec("a", 2), rootRec("b", 5)}, []string{"s"}, 6},
@@ -215,7 +218,7 @@ func TestRunRefuses(t *testing.T) {
 		want api.Errno
 	}{
 		{none, []api.Op{{}}, api.ErrWorld}, {example(), slices.Repeat([]api.Op{read(1)}, 21), api.ErrOp}, {example(), slices.Repeat([]api.Op{read(1)}, 20), api.OK},
-		{example(), []api.Op{root("a", -1)}, api.ErrOp}, {example(), []api.Op{makeNew(vals(1, -2, 0))}, api.ErrOp}, {example(), []api.Op{makeNew(vals(1, 0, -2))}, api.ErrOp}, {example(), []api.Op{makeNew(vals(1, 0, 0, -2))}, api.ErrOp}, {example(), []api.Op{makeNew(vals(1, 0, 0)), set(-2, "n", num(1))}, api.ErrOp}, {example(), []api.Op{set(1, "w", weak(-1))}, api.ErrOp}, {example(), []api.Op{read(99), set(1, "next", ref(-1))}, api.ErrOp},
+		{example(), []api.Op{root("a", -1)}, api.ErrOp}, {example(), []api.Op{makeNew(vals(1, -2, 0))}, api.ErrOp}, {example(), []api.Op{makeNew(vals(1, 0, -2))}, api.ErrOp}, {example(), []api.Op{makeNew(vals(1, 0, 0, -2))}, api.ErrOp}, {example(), []api.Op{makeNew(vals(1, 1, -2))}, api.ErrOp}, {example(), []api.Op{set(1, "l", list(weak(1), weak(-1)))}, api.ErrOp}, {example(), []api.Op{makeNew(vals(1, 1, 3))}, api.ErrGone}, {example(), []api.Op{makeNew(vals(1, 0, 0)), set(-2, "n", num(1))}, api.ErrOp}, {example(), []api.Op{set(1, "w", weak(-1))}, api.ErrOp}, {example(), []api.Op{read(99), set(1, "next", ref(-1))}, api.ErrOp},
 		{full, []api.Op{makeNew(vals(1, 0, 0))}, api.OK}, {full, []api.Op{makeNew(vals(1, 0, 0)), makeNew(vals(1, 0, 0))}, api.ErrOp}, {last, []api.Op{makeNew(vals(1, 0, 0))}, api.ErrOp}, {last, []api.Op{read(1)}, api.OK},
 		{example(), []api.Op{{Kind: api.OpNew, Class: "x", Vals: vals(1, 3, 0)}}, api.ErrOp}, {example(), []api.Op{makeNew(vals(1, 3, 0))}, api.ErrGone}, {example(), []api.Op{makeNew(vals(1, 0, 3))}, api.ErrGone}, {example(), []api.Op{makeNew(vals(1, 0, 0, 1, 99))}, api.ErrGone}, {example(), []api.Op{makeNew([]api.Val{weak(3)})}, api.ErrGone}, {example(), []api.Op{makeNew([]api.Val{weak(1)})}, api.ErrFit}, {example(), []api.Op{makeNew(nil)}, api.ErrFit}, {example(), []api.Op{makeNew([]api.Val{num(1), weak(1), {}, list()})}, api.ErrFit},
 		{example(), []api.Op{makeNew(vals(1, 5, 0))}, api.ErrGone}, {example(), []api.Op{makeNew(vals(1, 0, 0)), set(5, "n", num(1))}, api.ErrGone}, {example(), []api.Op{makeNew(vals(1, 0, 0)), read(5)}, api.ErrGone}, {example(), []api.Op{makeNew(vals(1, 0, 0)), root("a", 5)}, api.ErrGone},

@@ -216,6 +216,24 @@ func TestABatchHasAtMostSoManyBytes(t *testing.T) {
 	}
 }
 
+// TestBytesOfTooLargeABatch lays records behind one head by hand.
+func TestBytesOfTooLargeABatch(t *testing.T) {
+	for bytes, want := range map[int]api.Errno{9000: api.OK, 11000: api.ErrRec} {
+		b := large(bytes)
+		head := func(records int) string {
+			return wire.Num(b.Kind) + wire.Num(b.N) + wire.Num(b.Next) + wire.Num(records)
+		}
+		s := head(len(b.Recs))
+		for _, r := range b.Recs {
+			one, _ := rec.Encode(commit(b.N, b.Next, r))
+			s += strings.TrimPrefix(one, head(1))
+		}
+		if _, err := rec.Decode(s); err != want {
+			t.Errorf("Decode of %d bytes: %d", len(s), err)
+		}
+	}
+}
+
 func TestDecodeUndoesEncode(t *testing.T) {
 	met := map[string]bool{}
 	for i, b := range rightBatches() {

@@ -176,6 +176,22 @@ func TestNilAndDownStores(t *testing.T) {
 	}
 }
 
+func TestAStoreIsDownIfPowerGoesWhileItSeals(t *testing.T) {
+	for calls := range 4 {
+		d, s := made(t, 64, 8)
+		commits(t, s, 1, ok(1), txn(0, addClass(), makeNew(3, 0), root("h", -1)))
+		// A write, and then what seals it: Sync, a write, Sync.
+		d.Cut(calls)
+		if errs, err := s.Commit([]api.Txn{txn(1, set(1, 4))}); len(errs) > 0 || err != api.ErrPower {
+			t.Fatalf("cut behind %d: %v, %d", calls, errs, err)
+		}
+		d.Cut(1000)
+		if errs, err := s.Commit([]api.Txn{txn(1, set(1, 4))}); len(errs) > 0 || err != api.ErrDown || s.N() != 0 || len(s.Facts()) > 0 {
+			t.Errorf("cut behind %d: the store is not down: %v, %d", calls, errs, err)
+		}
+	}
+}
+
 func TestCommitRefuses(t *testing.T) {
 	_, s := made(t, 64, 8)
 	if errs, err := s.Commit(make([]api.Txn, 9)); len(errs) > 0 || err != api.ErrArg {
@@ -258,6 +274,16 @@ func TestCollectRefusesAndRests(t *testing.T) {
 		if rest, err := s.Collect(1); rest != want || err != api.OK {
 			t.Errorf("with what was written, call %d: %t, %d", i, rest, err)
 		}
+	}
+}
+
+func TestASnapshotIsNothingToMark(t *testing.T) {
+	_, s := made(t, 64, 8)
+	commits(t, s, 1, ok(1), txn(0, addClass(), makeNew(3, 0), makeNew(4, 0), root("h", -2)))
+	s.Collect(0)
+	commits(t, s, 2, ok(1), txn(1, snapOp("s")))
+	if rest, err := s.Collect(1); !rest || err != api.OK {
+		t.Errorf("one step is left: %t, %d", rest, err)
 	}
 }
 

@@ -77,7 +77,7 @@ func TestCheck(t *testing.T) {
 	}
 	for want, l := range wrong() {
 		at, err := table.Check(l)
-		put, putErr := table.Put(l, api.Fact{})
+		put, putErr := table.Put(l, fact(9, root("z", 0)))
 		w, worldErr := table.World(l, -1)
 		keys, keysErr := table.Changed(l, 0)
 		if at != want || err != api.ErrTable || putErr != api.ErrTable || worldErr != api.ErrTable || keysErr != api.ErrTable {

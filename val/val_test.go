@@ -107,7 +107,7 @@ func TestFits(t *testing.T) {
 		{ref(5), of(api.Ref, 0), true}, {weak(5), of(api.Ref, 0), false}, {ref(5), of(api.Weak, 0), false}, {ref(-1), of(api.Ref, 0), true},
 		{api.Val{}, of(api.Ref, 0), true}, {api.Val{}, of(api.Weak, 0), true}, {api.Val{}, of(api.Num, 0), false}, {api.Val{}, of(api.List, api.Ref), false},
 		{list(), of(api.List, api.Num), true}, {list(num(1), num(2)), of(api.List, api.Num), true}, {list(num(1), text("")), of(api.List, api.Num), false},
-		{list(ref(1), api.Val{}), of(api.List, api.Ref), true}, {list(api.Val{}), of(api.List, api.Num), false}, {list(weak(1)), of(api.List, api.Ref), false},
+		{list(ref(1), api.Val{}), of(api.List, api.Ref), true}, {list(api.Val{}), of(api.List, api.Num), false}, {list(weak(1)), of(api.List, api.Ref), false}, {list(weak(1), api.Val{}), of(api.List, api.Weak), true},
 		{num(1), of(api.List, api.Num), false}, {list(), of(api.Num, 0), false},
 		{num(api.MaxNum + 1), of(api.Num, 0), false}, {list(list()), of(api.List, api.List), false},
 		{num(5), of(api.Num, 1), false}, {list(), of(api.List, 0), false}, {list(), of(api.List, api.List), false}, {api.Val{}, of(0, 0), false}, {api.Val{}, of(-1, 0), false}, {list(), of(api.List, -1), false},
@@ -120,7 +120,7 @@ func TestFits(t *testing.T) {
 
 func TestZero(t *testing.T) {
 	for at, want := range map[api.Type]api.Val{
-		of(api.Num, 0): num(0), of(api.Text, 0): text(""), of(api.Ref, 0): {}, of(api.Weak, 0): {}, of(api.List, api.Ref): list(),
+		of(api.Num, 0): num(0), of(api.Text, 0): text(""), of(api.Ref, 0): {}, of(api.Weak, 0): {}, of(api.List, api.Ref): list(), of(api.List, api.Weak): list(),
 		of(0, 0): {}, of(6, 0): {}, of(api.Num, 1): {}, of(api.List, 0): {}, of(api.List, api.List): {}, of(-1, -1): {},
 	} {
 		if got := val.Zero(at); !val.Same(got, want) {
@@ -188,7 +188,7 @@ func TestDecodeTellsTheFirstFault(t *testing.T) {
 		"": api.ErrWire, "\x80\x00": api.ErrWire, "\x0c": api.ErrVal, "\x01": api.ErrVal, "\x02": api.ErrWire, "\x02" + wire.Num(api.MaxNum+1): api.ErrVal,
 		"\x04\x04a": api.ErrWire, "\x04\x02\x1f": api.ErrVal, "\x04" + long: api.ErrVal, "\x04\x02\xff": api.ErrVal,
 		"\x06\x00": api.ErrVal, "\x08" + wire.Num(-21): api.ErrVal, "\x08": api.ErrWire,
-		"\x0a": api.ErrWire, "\x0a\x01": api.ErrVal, "\x0a\x1a": api.ErrVal, "\x0a\x18": api.ErrWire, "\x0a\x02\x0a\x00": api.ErrVal, "\x0a\x04\x02\x02\x0c": api.ErrVal,
+		"\x0a": api.ErrWire, "\x0a\x01": api.ErrVal, "\x0a\x1a": api.ErrVal, "\x0a\x18": api.ErrWire, "\x0a\x02\x0a\x00": api.ErrVal, "\x0a\x02\x0a": api.ErrVal, "\x0a\x04\x02\x02\x0c": api.ErrVal,
 		"\x0a\x04\x02\x80\x00\x0c": api.ErrWire, "\x0a" + wire.Num(math.MaxInt): api.ErrVal,
 	} {
 		if v, to, err := val.Decode(s, 0); !val.Same(v, api.Val{}) || to != 0 || err != want {
@@ -241,7 +241,7 @@ func TestReadTakesTheLongestText(t *testing.T) {
 		"007": {num(0), 1}, "- 5": {api.Val{}, 1}, "-5": {num(-5), 2}, "-0": {api.Val{}, 1}, "-05": {api.Val{}, 1}, "--1": {api.Val{}, 1}, "-x": {api.Val{}, 1},
 		"1000000000000001": {num(100000000000000), 15}, "-10000000000000000": {num(-api.MaxNum), 17}, "12345678901234567890": {num(123456789012345), 15},
 		"99999999999999999999999999": {num(999999999999999), 15},
-		"@1000000":                   {ref(100000), 7}, "@100001": {ref(10000), 6}, "@-21": {ref(-2), 3}, "~-205": {weak(-20), 4}, "~12]": {weak(12), 3},
+		"@1000000":                   {ref(100000), 7}, "@100001": {ref(10000), 6}, "@-21": {ref(-2), 3}, "~100001": {weak(10000), 6}, "~-21": {weak(-2), 3}, "~-205": {weak(-20), 4}, "~12]": {weak(12), 3},
 		"[] ]": {list(), 2}, "[-]": {list(api.Val{}), 3}, "[-5 -]x": {list(num(-5), api.Val{}), 6},
 	} {
 		got, to, err := val.Read(s, 0)
@@ -255,7 +255,7 @@ func TestReadRefusesWhatIsNoValue(t *testing.T) {
 	thirteen := "[" + strings.Repeat("1 ", 12) + "1]"
 	for _, s := range []string{
 		"", "x", " 1", "+1", "@", "@0", "@-", "@-0", "@05", "~", "~x", `"`, `"a`, `"\`, `"\a"`, "\"\n\"", "\"\xff\"", `"` + strings.Repeat("c", 61) + `"`,
-		"[", "[1", "[1 ", "[ 1]", "[1 ]", "[1  2]", "[1,2]", "[[]]", "[@0]", "[1000000000000001]", "[007]", "[-05]", thirteen, "[1 2", "]",
+		"[", "[1", "[1 ", "[ 1]", "[1 ]", "[1  2]", "[1,2]", "[[]]", "[@0]", "[1000000000000001]", "[007]", "[-05]", thirteen, "[1 2", "]", "x]", "(1]", "1x]"[1:], "]1]",
 	} {
 		if v, to, err := val.Read("ab"+s, 2); !val.Same(v, api.Val{}) || to != 2 || err != api.ErrVal {
 			t.Errorf("Read(%s): %v, %d, %d", s, v, to, err)

@@ -93,6 +93,9 @@ func TestTextIsLaidAndReadBack(t *testing.T) {
 		if got != s || to != 2+len(laid) || err != api.OK {
 			t.Errorf("ReadText of %d bytes: %d bytes, %d, %d", len(s), len(got), to, err)
 		}
+		if got, to, err := wire.ReadText(laid, 0); got != s || to != len(laid) || err != api.OK {
+			t.Errorf("ReadText of %d bytes up to the end: %d bytes, %d, %d", len(s), len(got), to, err)
+		}
 		if got, to, err := wire.ReadText(laid[:len(laid)-1], 0); got != "" || to != 0 || err != api.ErrWire {
 			t.Errorf("a text that ends ahead: %q, %d, %d", got, to, err)
 		}

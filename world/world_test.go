@@ -170,9 +170,9 @@ func TestApply(t *testing.T) {
 	if !world.Same(same, example()) || n != 0 || err != api.OK {
 		t.Errorf("Apply of nothing: %v, %d, %d", same, n, err)
 	}
-	big, _, err := world.Apply(example(), []api.Rec{put(at(api.MaxID, 0, 0))})
-	if big.Next != api.MaxID+1 || err != api.OK {
-		t.Errorf("Next: %d, %d", big.Next, err)
+	big, _, err := world.Apply(example(), []api.Rec{put(at(api.MaxID, 0, 0)), root("big", api.MaxID), root("one", 1)})
+	if big.Next != api.MaxID+1 || !slices.Equal(big.Roots, []api.Root{{Name: "big", ID: api.MaxID}, {Name: "one", ID: 1}, {Name: "top", ID: 1}}) || err != api.OK {
+		t.Errorf("the greatest number: %d, %v, %d", big.Next, big.Roots, err)
 	}
 }
 
