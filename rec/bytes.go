@@ -71,21 +71,23 @@ func (r *reader) num() int { return next(r, wire.ReadNum) }
 func (r *reader) named() api.Rec { return api.Rec{Name: next(r, wire.ReadText), ID: r.num()} }
 
 // Decode is the batch of some bytes.
-func Decode(s string) (b api.Batch, err api.Errno) {
+func Decode(s string) (api.Batch, api.Errno) {
+	r := &reader{s: s}
+	b, ok := r.whole()
+	if !ok || len(s) > api.MaxBytes || r.at != len(s) || !Right(b) {
+		return api.Batch{}, api.ErrRec
+	}
+	return b, api.OK
+}
+
+// whole is the batch that stands there, if one does.
+func (r *reader) whole() (b api.Batch, ok bool) {
 	defer func() {
 		if _, wrong := recover().(fault); wrong {
-			b, err = api.Batch{}, api.ErrRec
+			b, ok = api.Batch{}, false
 		}
 	}()
-	if len(s) > api.MaxBytes {
-		return api.Batch{}, api.ErrRec
-	}
-	r := &reader{s: s}
-	found := r.batch()
-	if r.at != len(s) || !Right(found) {
-		return api.Batch{}, api.ErrRec
-	}
-	return found, api.OK
+	return r.batch(), true
 }
 
 func (r *reader) batch() api.Batch {
